@@ -1,0 +1,1 @@
+"""Stationrow: tasks dealt to a row of stands."""
