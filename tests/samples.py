@@ -1,9 +1,15 @@
 """Works and their texts, for several tests."""
 
-from itertools import combinations
+from functools import lru_cache
+from itertools import combinations, product
 from random import Random
 
+from stationrow.checks import check_works
+from stationrow.errors import RowError
+
 EIGHT = ("a", "bb", "ccc", "dddd", "eeeee", "ffffff", "ggggggg", "hhhhhhhh")
+
+LONGEST = 10 ** 60 - 1
 
 SMALLEST = ((("a", 1, ()),), (), (), ("x",))
 
@@ -75,6 +81,27 @@ def plain_works(names, orders=(), pairs=(), row=("x",)):
     return (tuple((name, 1, ()) for name in names.split()), orders, pairs, row)
 
 
+def sized_works(lengths, orders=(), pairs=(), row=("x",) * 8):
+    """A works of so long tasks, named as EIGHT, that may be done at all stands."""
+    return (tuple((name, length, ()) for name, length in zip(EIGHT, lengths)), orders, pairs, row)
+
+
+def unlike_works():
+    """Eight tasks of unlike lengths, together 44, and eight stands."""
+    return sized_works((7, 3, 5, 9, 4, 6, 8, 2))
+
+
+def long_works():
+    """Eight tasks as long as can be, each one less than the one ahead, and eight stands."""
+    return sized_works([LONGEST - k for k in range(8)])
+
+
+def beyond_works():
+    """Nine tasks in a chain and nine stands, the lengths beyond what a works may have."""
+    names = tuple("abcdefghi")
+    return (tuple((name, 10 ** 61, ()) for name in names), tuple(zip(names, names[1:])), (), ("x",) * 9)
+
+
 def some_of(source, things, most):
     return tuple(source.sample(things, source.randint(0, min(most, len(things)))))
 
@@ -132,3 +159,102 @@ def renamed(works, names):
 def told_otherwise(works):
     """The works with its tasks, orders and pairs told the other way about."""
     return (works[0][::-1], works[1][::-1], works[2][::-1], works[3])
+
+
+def stands_check(works):
+    try:
+        check_works(works)
+    except RowError:
+        return False
+    return True
+
+
+def is_closed(works, done):
+    """Whether with each of them all that chains lead from are done, too, which holds just for a done."""
+    return all(one in done for one, other in chain_table(works) if other in done)
+
+
+def dones_of(works):
+    return [done for done in all_sets(works) if is_closed(works, done)]
+
+
+def plain_number(works, tasks):
+    return sum(2 ** names_of(works).index(task) for task in tasks)
+
+
+def small_works(seed, count):
+    """So many works that stand the check, of one to five tasks and one to four stands, each other one with pairs."""
+    source = Random(seed)
+    told = []
+    while len(told) < count:
+        names = source.sample(EIGHT, len(told) % 5 + 1)
+        ends = [(one, other) for one in names for other in names if one != other]
+        forward = [(one, other) for one, other in ends if names.index(one) < names.index(other)]
+        orders = some_of(source, ends if len(told) % 7 == 0 else forward, len(told) % 5)
+        pairs = some_of(source, [(word, *end) for word in ("with", "apart") for end in ends], len(told) % 2 * 3)
+        source.shuffle(names)
+        tasks = tuple((name, source.randint(1, 9), some_of(source, ("k", "q", "z"), len(told) % 3)) for name in names)
+        works = (tasks, orders, pairs, tuple(source.choices(("k", "q"), k=source.randint(1, 4))))
+        if stands_check(works):
+            told.append(works)
+    return told
+
+
+def ways_to_deal(works, many):
+    """All ways to deal the tasks to so many stands, each stand's tasks in their order."""
+    names = names_of(works)
+    for stands in product(range(many), repeat=len(names)):
+        yield tuple(tuple(name for name, at in zip(names, stands) if at == k) for k in range(many))
+
+
+def keeps_rules(works, dealing):
+    """Whether a way to deal the tasks keeps all orders, pairs and kinds."""
+    at = {name: stand for stand, tasks in enumerate(dealing) for name in tasks}
+    if any(at[one] > at[other] for one, other in works[1]):
+        return False
+    if any((at[one] == at[other]) == (word == "apart") for word, one, other in works[2]):
+        return False
+    return all(kinds == () or works[3][at[name]] in kinds for name, length, kinds in works[0])
+
+
+def plain_loads(works, dealing):
+    lengths = {name: length for name, length, kinds in works[0]}
+    return tuple(sum(lengths[name] for name in tasks) for tasks in dealing)
+
+
+@lru_cache(maxsize=None)
+def kept_loads(works, many):
+    """The loads of all ways to deal the tasks to so many stands that keep all but a beat."""
+    return tuple(plain_loads(works, dealing) for dealing in ways_to_deal(works, many) if keeps_rules(works, dealing))
+
+
+def has_dealing(works, beat, many):
+    """Whether of all ways gone through one is a dealing without a fault."""
+    return any(max(loads, default=0) <= beat for loads in kept_loads(works, many))
+
+
+def telling_beats(works):
+    """Beats at which the dealings of a works change, those one less, nought and one above all."""
+    lengths = [length for name, length, kinds in works[0]]
+    told = {0, max(lengths) - 1, max(lengths), sum(lengths) + 1}
+    for many in range(1, len(works[3]) + 1):
+        if kept_loads(works, many):
+            least = min(max(loads) for loads in kept_loads(works, many))
+            told |= {least - 1, least}
+    return sorted(told)
+
+
+def asked_small(seed, count):
+    """Small works, each with some telling beats and all numbers of stands."""
+    return [
+        (works, beat, many)
+        for works in small_works(seed, count)
+        for beat in telling_beats(works)
+        for many in range(len(works[3]) + 1)
+    ]
+
+
+def other_names(works):
+    """The works with other names for its tasks, by which they would be sorted the other way about."""
+    names = names_of(works)
+    return renamed(works, dict(zip(sorted(names), ("zz", "y", "xx", "w", "vv", "u", "tt", "s"))))

@@ -3,21 +3,10 @@
 import unittest
 
 from samples import (
-    EIGHT, MIDDLE, SMALLEST, all_sets, chain_table, forward_orders, names_of, plain_works, scattered_works,
+    EIGHT, LONGEST, MIDDLE, SMALLEST, all_sets, beyond_works, chain_table, dones_of, forward_orders, is_closed,
+    long_works, names_of, plain_number, plain_works, scattered_works, stands_check,
 )
-from stationrow.checks import check_works
-from stationrow.errors import RowError
 from stationrow.fillings import all_fillings, greatest_fillings, is_filling
-
-LONGEST = 10 ** 60 - 1
-
-
-def stands_check(works):
-    try:
-        check_works(works)
-    except RowError:
-        return False
-    return True
 
 
 def has_group(works):
@@ -33,15 +22,6 @@ def some_works():
 
 
 SOME_WORKS = some_works()
-
-
-def is_closed(works, done):
-    """Whether with each of them all that chains lead from are done, too, which holds just for a done."""
-    return all(one in done for one, other in chain_table(works) if other in done)
-
-
-def dones_of(works):
-    return [done for done in all_sets(works) if is_closed(works, done)]
 
 
 def keeps_all(works, beat, kind, done, tasks):
@@ -61,10 +41,6 @@ def keeps_all(works, beat, kind, done, tasks):
     if any(word == "apart" and one in tasks and other in tasks for word, one, other in works[2]):
         return False
     return sum(lengths[task] for task in tasks) <= beat
-
-
-def plain_number(works, tasks):
-    return sum(2 ** names_of(works).index(task) for task in tasks)
 
 
 def asked_of(works):
@@ -188,7 +164,7 @@ class OneFilling(unittest.TestCase):
         self.told(True, plain_works("a b"), 0, "x", ("b",), ())
 
     def test_lengths_of_sixty_figures(self):
-        works = (tuple((name, LONGEST - k, ()) for k, name in enumerate(EIGHT)), (), (), ("x",))
+        works = long_works()
         load = 8 * LONGEST - 28
         self.told(True, works, load, "x", (), EIGHT)
         self.told(False, works, load - 1, "x", (), EIGHT)
@@ -307,8 +283,8 @@ class ListOfFillings(unittest.TestCase):
                     self.assertTrue(is_closed(works, done + filling))
 
     def test_somewhat_beyond_the_bounds_is_not_refused(self):
-        names = tuple("abcdefghi")
-        works = (tuple((name, 10 ** 61, ()) for name in names), tuple(zip(names, names[1:])), (), ("x",) * 9)
+        works = beyond_works()
+        names = names_of(works)
         self.listed(works, 10 ** 62, "x", (), [names[:k] for k in range(10)], [names])
         self.listed(works, 2 * 10 ** 61, "x", (), [names[:k] for k in range(3)], [names[:2]])
 
