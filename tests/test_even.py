@@ -3,7 +3,7 @@
 import unittest
 
 from samples import (
-    EIGHT, LONGEST, MIDDLE, SMALLEST, asked_small, beyond_works, forward_orders, kept_loads, keeps_rules, long_works,
+    EIGHT, LONGEST, MIDDLE, SMALLEST, asked_small, beyond_works, forward_orders, keeps_rules, kept_loads, long_works,
     names_of, other_names, plain_loads, plain_number, plain_works, sized_works, small_works, telling_beats,
     told_otherwise, unlike_works,
 )
